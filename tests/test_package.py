@@ -1,0 +1,89 @@
+"""The folder, the interface and the language of the package."""
+
+import ast
+import importlib
+import inspect
+import os
+import unittest
+
+from tests.language import breaches, own_names
+
+FOLDER = os.path.join(os.path.dirname(os.path.dirname(os.path.abspath(__file__))), "lampsaloft")
+
+# Each module with what the interface lists for it, in the order in which a module may use those above it.
+INTERFACE = {
+    "errors": "LampError NoCommand(line) NoText(line, column) TooMany(most) Wrong(place)",
+    "fractions": """reduced(n, d) added(one, other) lessened(one, other) times(one, other) over(one, other)
+        least_of(fractions) greatest_of(fractions) clipped(one) compared(one, other) floor_of(one) root_floor(n)""",
+    "forms": """is_integer(thing) is_fraction(thing) is_name(thing) is_column(thing) is_bounds(thing) is_leg(thing)
+        are_legs(thing) is_lamp(thing) is_picture(thing) is_charge(thing) is_scene(bounds, thing) is_show(thing)
+        is_edition(many, thing) squared(one, other) way_squared(leg) r_of(bounds) lag_of(bounds) rho_of(bounds, ticks)""",
+    "names": "are_shades(thing) shades_text(shades) shade_at(shades, tick) shades_read(text) cycle_of(shades)",
+    "shapes": """dots(points) stroke(one, other, stride) chain(points, stride) loop(points, stride)
+        disc(middle, radius, stride) rim(middle, radius, stride) frame(one, other, stride) filled(points, stride)
+        moved(shape, x, z) mirrored(shape, x) turned(shape, quarters) scaled(shape, many) joined(shapes)
+        without(shape, other) common(shape, other) thinned(shape, least) is_within(points, dot) box_of(shape)""",
+}
+
+
+def source_of(module):
+    with open(os.path.join(FOLDER, module + ".py"), encoding="utf-8") as file:
+        return file.read()
+
+
+def listed(module):
+    """The couples of a name and its arguments that the interface lists for a module."""
+    told = []
+    for part in INTERFACE[module].replace("\n", " ").replace(")", ");").replace("LampError", "LampError;").split(";"):
+        name, _, rest = part.strip().partition("(")
+        if name:
+            told.append((name, [word.strip() for word in rest.rstrip(")").split(",") if word.strip()]))
+    return told
+
+
+class Package(unittest.TestCase):
+
+    def test_folder(self):
+        found = sorted([name for name in os.listdir(FOLDER) if name != "__pycache__"])
+        self.assertEqual(found, sorted([module + ".py" for module in INTERFACE] + ["__init__.py"]))
+        self.assertEqual(source_of("__init__"), "")
+
+    def test_interface(self):
+        for module in INTERFACE:
+            held = importlib.import_module("lampsaloft." + module)
+            for name, arguments in listed(module):
+                one = getattr(held, name)
+                self.assertEqual(one.__module__, held.__name__)
+                if name != "LampError":
+                    self.assertEqual(list(inspect.signature(one).parameters), arguments, name)
+
+    def test_language(self):
+        above = {}
+        for module in INTERFACE:
+            self.assertEqual(breaches(source_of(module), above), [], module)
+            above[module] = own_names(source_of(module))
+
+    def test_docstrings(self):
+        for module in INTERFACE:
+            for node in ast.walk(ast.parse(source_of(module))):
+                if isinstance(node, (ast.Module, ast.ClassDef)):
+                    self.assertTrue(ast.get_docstring(node), module)
+
+    def test_language_is_looked_at(self):
+        above = {"errors": {"Wrong"}}
+        samples = {
+            "from os import path\n": "L2", "from lampsaloft.errors import NoText\n": "L2", "import math\n": "L3",
+            "A = 1\nfrom math import gcd\n": "L2", "A = [[1], 2]\n": "L15", "A = len([1])\n": "L3", "A = 1\nA = 2\n": "L15",
+            "def f(n):\n    return n / 2\n": "L7", "def f(n):\n    return 0.5\n": "L7", "def f(n):\n    return '%'\n": "L27",
+            "def f(n):\n    return sum(k for k in n)\n": "L7", "def f(n):\n    yield n\n": "L7",
+            "def f(n):\n    print(n)\n": "L8", "def f(*n):\n    return n\n": "L4", "def f(max):\n    return max\n": "L15",
+            "def f(n):\n    return n is f\n": "L20", "def f(n):\n    for k in set(n):\n        return k\n": "L24",
+            "def f(n):\n    a = set(n)\n    return a\n": "L24", "def f(n):\n    return zip(n, n)\n": "L23",
+            "def f(n):\n    return n.encode()\n": "L25", "def f(n):\n    try:\n        return 1\n    finally:\n        pass\n": "L6",
+            "def f(n):\n    return 2 ** n\n": "L27", "def f(n):\n" + "    n = 1\n" * 40: "L10", "A = 1  #" + "x" * 120: "L10",
+            "from lampsaloft.errors import Wrong\ndef f(Wrong):\n    return 1\n": "L15", "A = 'type'\n": "L17",
+            "def f(n):\n    return sorted(n, cmp=1)\n": "L22", "def f(n: int):\n    return n\n": "L21",
+        }
+        for source, rule in samples.items():
+            self.assertIn(rule, [told[0] for told in breaches(source, above)], source)
+        self.assertEqual(breaches("from lampsaloft.errors import Wrong\ndef f(n):\n    raise Wrong(n)\n", above), [])
