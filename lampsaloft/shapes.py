@@ -223,9 +223,10 @@ def common(shape, other):
 
 
 def _is_near_any(cells, dot, least):
-    """Whether a DOT is nearer than least to one in its cell or the eight around it."""
+    """Whether a DOT is nearer than least to one of those, not greater ones, that lie in cells of this size."""
     across, up = dot[0] // least, dot[1] // least
-    for cell in [(across + i, up + j) for i in (-1, 0, 1) for j in (-1, 0, 1)]:
+    # What is nearer than least lies in the same cell or in one beside it; and nothing lies to the right so far.
+    for cell in [(across + i, up + j) for i in (-1, 0) for j in (-1, 0, 1)]:
         if any([squared(dot, taken) < least * least for taken in cells.get(cell, [])]):
             return True
     return False
@@ -233,7 +234,7 @@ def _is_near_any(cells, dot, least):
 
 def thinned(shape, least):
     """The SHAPE of the DOTS, taken in order, that are not nearer than least to one taken already."""
-    # By cells of this size few DOTS have to be asked for each one: those of its own cell and of the eight around.
+    # A cell of the size least has room for few DOTS: so few have to be asked for each one.
     cells = {}
     taken = []
     for dot in shape:

@@ -23,6 +23,18 @@ INTERFACE = {
         disc(middle, radius, stride) rim(middle, radius, stride) frame(one, other, stride) filled(points, stride)
         moved(shape, x, z) mirrored(shape, x) turned(shape, quarters) scaled(shape, many) joined(shapes)
         without(shape, other) common(shape, other) thinned(shape, least) is_within(points, dot) box_of(shape)""",
+    "letters": "strokes_of(sign) letter(sign, size, stride) word(text, size, stride, gap)",
+    "pictures": """painted(shape, shades, weight) together(pictures) kept(picture, shape) erased(picture, shape)
+        weighed(picture, shape, weight) shaded(picture, shape, shades) moved_lamps(picture, x, z)
+        mirrored_lamps(picture, x) shape_of(picture) at_tick(picture, tick) is_seen_alike(picture, other)""",
+    "picturetexts": "picture_of(text) picture_text(picture)",
+    "rows": """rows_of(picture, spacing) most_abreast(picture, spacing) rows_paper(picture, spacing) rows_many(rows)
+        is_rows(picture, spacing, thing) is_rows_paper(picture, spacing, thing)""",
+    "seats": """seats_of(picture, spacing) fame(picture) goals_of(picture, spacing, many) dark_of(picture, many)
+        seen_from(picture, spacing, columns, tick) depth_of(picture, spacing) first_near(columns, spacing)
+        closest(columns) are_spaced(columns, spacing) lamp_at(picture, spacing, column)""",
+    "least": """squared_way(leg) price_of(legs) least_price(froms, goals, spare) is_choice(froms, goals, spare, thing)
+        free_spares(spare, legs) least_legs(froms, goals, spare)""",
 }
 
 
