@@ -81,11 +81,20 @@ class Matching:
                 rests[to] -= step
 
 
+def ways_of(froms, goals, spare):
+    """The squared WAYS: a list for each from, with one for each goal and, behind these, one for each spare one."""
+    return [[squared(column, to) for to in goals + spare] for column in froms]
+
+
+def bonus_of(ways):
+    """More than all ways together: a goal that is cheaper by so much is never left out."""
+    return 1 + sum([sum(row) for row in ways])
+
+
 def matched(froms, goals, spare):
-    """The Matching of all froms, in which each goal has one, that has the least PRICE."""
-    ways = [[squared(column, to) for to in goals + spare] for column in froms]
-    # A goal is cheaper by more than all ways together: so it never pays to leave one out.
-    bonus = 1 + sum([sum(row) for row in ways])
+    """The Matching of all froms of the least PRICE in which each goal has one: there, goals cost less by the bonus."""
+    ways = ways_of(froms, goals, spare)
+    bonus = bonus_of(ways)
     costs = [[way - bonus if to < len(goals) else way for to, way in enumerate(row)] for row in ways]
     matching = Matching(costs, len(goals) + len(spare))
     for index in range(len(froms)):

@@ -29,6 +29,6 @@ class Examples(unittest.TestCase):
         top = os.path.dirname(os.path.dirname(FOLDER))
         with open(os.path.join(top, "README.md"), encoding="utf-8") as file:
             blocks = re.findall(r"```python\n(.*?)```", file.read(), re.S)
-        self.assertTrue(blocks)
-        for block in blocks:
-            self.check("README.md", block)
+        self.assertGreater(len(blocks), 1)
+        # One block uses what those above it have told.
+        self.check("README.md", "\n".join(blocks))

@@ -35,6 +35,14 @@ INTERFACE = {
         closest(columns) are_spaced(columns, spacing) lamp_at(picture, spacing, column)""",
     "least": """squared_way(leg) price_of(legs) least_price(froms, goals, spare) is_choice(froms, goals, spare, thing)
         free_spares(spare, legs) least_legs(froms, goals, spare)""",
+    "potentials": "potentials(froms, goals, spare, legs) is_least_paper(froms, goals, spare, legs, thing)",
+    "gains": """gained(spare, legs, gain) gained_often(froms, goals, spare, legs) gain_of(froms, goals, spare, legs)
+        is_gain(froms, goals, spare, legs, thing)""",
+    "crossless": "turn_of(leg, other) crossings(legs) is_crossless(legs) exchanged(legs, i, j) uncrossed(legs)",
+    "couples": """place_on(leg, s) corners_of(rho) nearest(leg, other, rho) squared_at(leg, other, s, t) is_within(s, t, rho)
+        is_apart(leg, other, rho, r)""",
+    "apartpapers": "apart_paper(leg, other, rho, r) is_apart_paper(leg, other, rho, r, thing)",
+    "flights": "nearest_of(legs, rho) is_flight_apart(bounds, ticks, legs) least_ticks(bounds, legs)",
 }
 
 
