@@ -31,13 +31,20 @@ WORDS = {
 LEASTS = {"WEIGHT": 0, "STRIDE": 1, "RADIUS": 0, "SIZE": 1, "GAP": 0, "LEAST": 1}
 
 
+def integer_shown(text):
+    """The integer that Python shows so, None if there is none."""
+    figures = text[1:] if text.startswith("-") else text
+    if figures == "" or not all([sign in FIGURES for sign in figures]):
+        return None
+    # Python shows no figures ahead of the first one that counts, and no minus ahead of 0.
+    if figures.startswith("0") and text != "0":
+        return None
+    return int(text)
+
+
 def integer_of(text):
     """The integer of at most nine digits that Python shows so, None if there is none."""
-    figures = text[1:] if text.startswith("-") else text
-    if not 1 <= len(figures) <= MOST_FIGURES or not all([sign in FIGURES for sign in figures]):
-        return None
-    number = int(text)
-    return number if str(number) == text else None
+    return integer_shown(text) if len(text.lstrip("-")) <= MOST_FIGURES else None
 
 
 def value_of(kind, text):

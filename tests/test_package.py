@@ -43,6 +43,14 @@ INTERFACE = {
         is_apart(leg, other, rho, r)""",
     "apartpapers": "apart_paper(leg, other, rho, r) is_apart_paper(leg, other, rho, r, thing)",
     "flights": "nearest_of(legs, rho) is_flight_apart(bounds, ticks, legs) least_ticks(bounds, legs)",
+    "legtables": """legs_between(froms, tos, way) couples_between(bounds, froms, tos)
+        bad_couples(bounds, ticks, froms, tos)""",
+    "spacing": """is_enough(bounds, ticks) least_ticks_for_all(bounds) greatest_near(bounds, ticks)
+        least_spacing(bounds, ticks)""",
+    "worst": "worst_couple(bounds, ticks) is_worst(bounds, ticks, thing)",
+    "shows": """hold_needed(bounds) writing_tick(show, scene) charge_needed(show) charge_used(show, editions, carrier)
+        timeline(show) stands(show, scene)""",
+    "showtexts": "show_text(show) read_show(text)",
 }
 
 
