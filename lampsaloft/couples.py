@@ -1,6 +1,6 @@
 """Two legs [23]: how near they come to each other at parts that differ by no more than told."""
 
-from lampsaloft.fractions import added, clipped, compared, lessened, reduced, times
+from lampsaloft.fractions import added, clipped, compared, is_before, lessened, reduced, times
 
 
 def place_on(leg, s):
@@ -77,15 +77,6 @@ def _meeting(leg, other):
     return (reduced(_cross(gap, to), turn), reduced(_cross(gap, along), turn))
 
 
-def _is_before(one, other):
-    """Whether a tuple of FRACTIONS stands ahead of another one of as many."""
-    for here, there in zip(one, other):
-        order = compared(here, there)
-        if order != 0:
-            return order < 0
-    return False
-
-
 def nearest(leg, other, rho):
     """(squared distance, s, t): the least one of all ALLOWED couples, and the least couple at which it is taken."""
     meeting = _meeting(leg, other)
@@ -95,7 +86,7 @@ def nearest(leg, other, rho):
     best = None
     for at in range(len(corners)):
         found = _nearest_on_side(gaps[at - 1], gaps[at], corners[at - 1], corners[at], rho[1])
-        if best is None or _is_before(found, best):
+        if best is None or is_before(found, best):
             best = found
     return best
 

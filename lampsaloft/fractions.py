@@ -59,6 +59,23 @@ def greatest_of(fractions):
     return greatest
 
 
+def ascending(fractions):
+    """The ascending list of those of a list or tuple, each once."""
+    unlike = sorted(set(fractions))
+    # Two that are unlike differ by 1 / scale at least: so times scale they have no floor in common.
+    scale = max([d for _, d in unlike], default=1) ** 2
+    return sorted(unlike, key=lambda one: one[0] * scale // one[1])
+
+
+def is_before(one, other):
+    """Whether a tuple of FRACTIONS stands ahead of another one of as many."""
+    for here, there in zip(one, other):
+        order = compared(here, there)
+        if order != 0:
+            return order < 0
+    return False
+
+
 def clipped(one):
     """0 if one is below 0, 1 if it is above 1, otherwise itself."""
     if one[0] < 0:

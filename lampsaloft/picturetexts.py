@@ -194,6 +194,15 @@ class Sheet:
                           if not (left <= x <= right and low <= z <= high)}
 
 
+def line_done(picture, ink, line):
+    """(picture, ink) behind a line that is done to a PICTURE and its ink as the only line of a text."""
+    sheet = Sheet()
+    sheet.lamps = {lamp[:2]: lamp[2:] for lamp in picture}
+    sheet.ink = ink
+    sheet.do_line(0, line)
+    return (sheet.picture(), sheet.ink)
+
+
 def picture_of(text):
     """The PICTURE that comes of the lines of a text [R]."""
     if not isinstance(text, str):

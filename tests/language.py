@@ -20,7 +20,7 @@ methodcaller os quit setattr super type vars sys _cold _tuplegetter _outside _re
 BARRED_STARTS = ("__", "_wall", "_pe_", "_dcw_", "_enum_", "_cm_", "_twin_re_", "_lay_", "_law_", "_stub_", "_sre", "_Wall")
 BARRED_WORDS = ["_wall", "dataclass", "overload", "contextmanager", "__class__"]
 STATEMENTS = (ast.Assign, ast.AugAssign, ast.If, ast.While, ast.For, ast.Return, ast.Break, ast.Continue, ast.Pass,
-              ast.Raise, ast.Assert, ast.Delete, ast.Expr, ast.FunctionDef, ast.ClassDef, ast.ImportFrom)
+              ast.Raise, ast.Assert, ast.Delete, ast.Expr, ast.FunctionDef, ast.ClassDef, ast.ImportFrom, ast.Try)
 EXPRESSIONS = (ast.BoolOp, ast.BinOp, ast.UnaryOp, ast.IfExp, ast.Compare, ast.Call, ast.Attribute, ast.Subscript,
                ast.Name, ast.Constant, ast.List, ast.Tuple, ast.Dict, ast.Set, ast.ListComp, ast.DictComp, ast.SetComp,
                ast.Slice, ast.Lambda, ast.Starred, ast.JoinedStr, ast.FormattedValue)
@@ -140,6 +140,20 @@ class Checker:
                 self.breach("L27", node, "exponent")
 
     see_AugAssign = see_BinOp
+
+    def see_Try(self, node):
+        if node.finalbody or node.orelse:
+            self.breach("L6", node, "finally or else")
+        for handler in node.handlers:
+            # Errors of Python's own may be caught in few places: the package catches none.
+            if not isinstance(handler.type, ast.Name) or handler.type.id not in self.imported or handler.name:
+                self.breach("L19", handler, "caught")
+
+    def see_Raise(self, node):
+        if node.cause is not None and not (isinstance(node.cause, ast.Constant) and node.cause.value is None):
+            self.breach("L19", node, "cause")
+        if not isinstance(node.exc, ast.Call) or not isinstance(node.exc.func, ast.Name):
+            self.breach("L19", node, "raised")
 
     def see_Compare(self, node):
         for sign, right in zip(node.ops, node.comparators):

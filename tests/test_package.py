@@ -51,6 +51,28 @@ INTERFACE = {
     "shows": """hold_needed(bounds) writing_tick(show, scene) charge_needed(show) charge_used(show, editions, carrier)
         timeline(show) stands(show, scene)""",
     "showtexts": "show_text(show) read_show(text)",
+    "verdicts": "reasons(show) verdict(show) is_reason(show, thing) is_let_by(show)",
+    "editions": """standing_at_first(show) standing_behind(standing, edition) edition_for(show, scene, standing)
+        is_stay(edition) is_right_edition(show, scene, standing, thing)""",
+    "cells": """window_at(show, now) written(disk, writes) standing_on(show, disk, scene) heard_on(disk, scene)
+        writes_of_tick(show, disk, now, reports) edition_on(disk, scene) letters_on(show, disk, now)""",
+    "house": "House(show)",
+    "carriers": "carrier_at_first(show, number) told(carrier, letter) told_all(carrier, letters) left(carrier)",
+    "nights": """is_night(show, thing) is_run(show, night, thing) fall_of(show, night, carrier) struck(show, night)
+        run_of(show, night)""",
+    "motion": """place_at(show, night, editions, carrier, moment) nearest_ever(show, night, editions)
+        breaks(show, night) are_apart_ever(show, night, editions)""",
+    "seen": "seen_at(show, night, editions, scene, i) dark_at(show, night, editions, scene, i)",
+    "books": "page_of(show, scene, standing) book_of(show) standings_of(show, book)",
+    "bookjudge": "is_page(show, scene, standing, thing) is_book(show, thing) first_wrong(show, things)",
+    "kept": "changed(show, book, index, scene)",
+    "bench": "Bench()",
+}
+
+# The methods that the interface lists for a class, each of which the class defines itself.
+METHODS = {
+    ("house", "House"): "up(reports) cut(reports, many) down(many) now() disk() show() edition(scene) twin()",
+    ("bench", "Bench"): "execute(line) pictures() drafts() shows() twin() __eq__(other)",
 }
 
 
@@ -59,10 +81,10 @@ def source_of(module):
         return file.read()
 
 
-def listed(module):
-    """The couples of a name and its arguments that the interface lists for a module."""
+def listed(text):
+    """The couples of a name and its arguments that a text of the interface lists."""
     told = []
-    for part in INTERFACE[module].replace("\n", " ").replace(")", ");").replace("LampError", "LampError;").split(";"):
+    for part in text.replace("\n", " ").replace(")", ");").replace("LampError", "LampError;").split(";"):
         name, _, rest = part.strip().partition("(")
         if name:
             told.append((name, [word.strip() for word in rest.rstrip(")").split(",") if word.strip()]))
@@ -79,11 +101,26 @@ class Package(unittest.TestCase):
     def test_interface(self):
         for module in INTERFACE:
             held = importlib.import_module("lampsaloft." + module)
-            for name, arguments in listed(module):
+            for name, arguments in listed(INTERFACE[module]):
                 one = getattr(held, name)
                 self.assertEqual(one.__module__, held.__name__)
                 if name != "LampError":
                     self.assertEqual(list(inspect.signature(one).parameters), arguments, name)
+
+    def test_methods(self):
+        for (module, name), text in METHODS.items():
+            kind = getattr(importlib.import_module("lampsaloft." + module), name)
+            self.assertEqual(len(listed(text)), text.count("("))
+            for method, arguments in listed(text):
+                self.assertIn(method, vars(kind))
+                self.assertEqual(list(inspect.signature(vars(kind)[method]).parameters), ["self"] + arguments)
+
+    def test_each_module_stands_behind_those_it_uses(self):
+        # The order of the document: a module may use those above it.
+        wanted = """errors fractions forms names shapes letters pictures picturetexts rows seats least potentials gains
+            crossless couples apartpapers flights legtables spacing worst shows showtexts verdicts editions cells house
+            carriers nights motion seen books bookjudge kept bench"""
+        self.assertEqual(list(INTERFACE), wanted.split())
 
     def test_language(self):
         above = {}
