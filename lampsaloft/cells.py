@@ -25,7 +25,7 @@ def written(disk, writes):
 
 def _carriers_on(disk, word, scene):
     """The ascending list of the carriers for which a DISK has an ADDRESS that begins so."""
-    return sorted([address[2] for address in disk if address[:2] == (word, scene) and len(address) == 3])
+    return sorted([address[2] for address in disk if address[:2] == (word, scene)])
 
 
 def heard_on(disk, scene):

@@ -201,7 +201,8 @@ class Commands(BenchCase):
         self.none(bench, "paint", "paint ", "paint a", "paint  dot 1 1", "paint A dot 1 1", "paint a1 dot 1 1", "paint a  dot 1 1",
                   "paint a dot 1", "paint a dot 1 1 ", "paint a dot 1  1", "paint a dot 01 1", "paint a dot 1 1000000000",
                   "paint a nothing", "paint a stroke 0 0 1 1 0", "paint abcdefghijklm dot 1 1", "paint s dot 1 1", " paint a dot 1 1",
-                  "Paint a dot 1 1", "paint\ta dot 1 1", "paint new dot 1", "paint a\ndot 1 1", "paint a dot 1 1\n", "paint new dot 1 x")
+                  "Paint a dot 1 1", "paint\ta dot 1 1", "paint new dot 1", "paint a\ndot 1 1", "paint a dot 1 1\n", "paint new dot 1 x",
+                  "paint a # a note\n", "paint a \n", "paint a # a\ndot 1 1", "\npaint a # a note")
         self.assertEqual(list(bench.pictures()), ["a"])
         self.assertEqual(bench.execute("paint abcdefghijkl dot 1 999999999"), ["1"])
 
@@ -254,6 +255,12 @@ class Commands(BenchCase):
         self.do(bench, "unscene s", "scene s 151 1 a")
         self.assertEqual(list(bench.shows()), ["s"])
         self.none(bench, "verdict a", "needed a", "text a", "text", "text s s", "needed  s", "verdict new")
+
+    def test_several_shows(self):
+        lines = [line.replace(" s ", f" {name} ") for name in ("z", "b", "m") for line in SHOW_LINES[3:]]
+        bench = self.made(*SHOW_LINES[:3], "pad c 1 1", *lines)
+        self.assertEqual([list(bench.shows()), list(bench.drafts())], [["b", "m", "z"], ["b", "c", "m", "z"]])
+        self.assertEqual(bench.execute("names"), ["a b c m z"])
 
     def test_a_new_draft(self):
         numbers = {"bounds": (0, (4, 1, 1, 0, 2, 70, 2, 1, 5)), "charge": (2, (900, 1, 2)), "pad": (1, ((-5, 0),))}

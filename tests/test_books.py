@@ -10,7 +10,7 @@ from lampsaloft.flights import is_flight_apart
 from lampsaloft.least import is_choice, least_legs, least_price, price_of
 from lampsaloft.potentials import is_least_paper, potentials
 from lampsaloft.rows import is_rows_paper, rows_paper
-from tests.showcase import goals_told, lag_of, show_with
+from tests.showcase import goals_told, lag_of, show_with, with_charge
 from tests.test_editions import some_standing
 from tests.test_least import distance
 from tests.things import PARTS, LampCase, any_values, exchanged
@@ -107,6 +107,17 @@ class Books(LampCase):
                 self.tells(standings[:many + 1], standings_of, show, book[:many])
             self.tells(True, is_book, show, book)
             self.tells(None, first_wrong, show, book)
+
+    def test_many_carriers(self):
+        pads = tuple([(25 * at, -60) for at in range(12)])
+        lamps = tuple([(25 * at + at % 3, 5, ("red",), at % 4) for at in range(14)])
+        show = with_charge(((20, 8, 1, 2, 6, 900, 3, 4, 12), pads, (0, 1, 2), ((9000, 40, lamps), (9000, 40, lamps[::2]))))
+        book = book_of(show)
+        self.tells(True, is_book, show, book)
+        for page in book:
+            self.assertEqual([len(page[3]), len(page[4])], [12, 66])
+            self.assertTrue(all(here != there for here, there in page[3].values()) or page is book[1])
+        self.tells(True, is_right_edition, show, 0, standing_at_first(show), book[0][3])
 
     def test_what_is_told_is_new(self):
         book = book_of(SHOW)

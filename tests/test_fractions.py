@@ -4,7 +4,8 @@ import random
 from fractions import Fraction
 
 from lampsaloft.fractions import (
-    added, clipped, compared, floor_of, greatest_of, least_of, lessened, over, reduced, root_floor, times)
+    added, ascending, clipped, compared, floor_of, greatest_of, is_before, least_of, lessened, over, reduced, root_floor,
+    times)
 from tests.things import LampCase
 
 NUMBERS = [0, 1, -1, 2, -2, 3, 6, -6, 12, 999999999, -999999999, 10 ** 20 - 1, 1 - 10 ** 20, 10 ** 39 + 7, -(10 ** 39)]
@@ -70,3 +71,21 @@ class Fractions(LampCase):
             self.tells(root, root_floor, root * root)
             self.tells(root - 1, root_floor, root * root - 1)
             self.tells(root, root_floor, root * root + 1)
+
+    def test_ascending(self):
+        dice = random.Random(12)
+        some = some_fractions()
+        for _ in range(200):
+            chosen = [dice.choice(some) for _ in range(dice.randint(0, 9))]
+            wanted = [pair(one) for one in sorted({Fraction(*one) for one in chosen})]
+            self.tells(wanted, ascending, chosen)
+            self.tells(wanted, ascending, tuple(chosen))
+        # As near to each other as their divisors let them be.
+        d = 10 ** 20
+        self.tells([(d - 1, d), (d, d + 1), (1, 1)], ascending, [(1, 1), (d, d + 1), (d - 1, d)])
+
+    def test_is_before(self):
+        one, two, three = (1, 3), (1, 2), (2, 3)
+        for first, other, wanted in (((one, three), (two, one), True), ((two, one), (one, three), False), ((one, two), (one, three), True),
+                                     ((one, three), (one, two), False), ((one, two), (one, two), False), ((one,), (two,), True)):
+            self.tells(wanted, is_before, first, other)

@@ -271,6 +271,16 @@ class Houses(LampCase):
                 for scene, carrier, leg in house.up(everybody):
                     self.assertEqual(house.edition(scene)[carrier], leg)
 
+    def test_a_seat_that_is_a_pad(self):
+        # This show is not LET BY; but nobody is sent where another one is.
+        lamps = ((9, 0, ("red",), 1), (11, 0, ("red",), 1))
+        scenes = ((20, 30, lamps), (20, 30, ((10, 0, ("red",), 1),)))
+        house = House(((1, 1, 0, 0, 3, 70, 2, 1, 5), ((0, 0), (10, 0)), (900, 1, 2), scenes))
+        while house.edition(1) is None:
+            house.up((0, 1))
+        self.assertEqual(house.edition(0), {0: ((0, 0), (9, 0)), 1: ((10, 0), (11, 0))})
+        self.assertEqual(house.edition(1), {0: ((9, 0), (0, 0)), 1: ((11, 0), (10, 0))})
+
     def test_twin(self):
         house = House(SHOW)
         house.up((0, 1))

@@ -192,6 +192,9 @@ class Nearest(LampCase):
         self.tells(((841, 1), (0, 1), 0, 3), nearest_ever, show, night_of({}, errs, winds, {}), stay)
         winds = [(STILL, EAST), (STILL, EAST), (STILL, STILL), (STILL, STILL)]
         self.tells(((841, 1), (22, 1), 0, 3), nearest_ever, show, night_of({}, errs, winds, {}), stay)
+        # The lesser moment counts ahead of the lesser couple.
+        winds = [(STILL, EAST), (EAST, STILL), (STILL, STILL), (STILL, STILL)]
+        self.tells(((841, 1), (0, 1), 1, 2), nearest_ever, show, night_of({}, errs, winds, {}), stay)
 
     def test_the_first_of_a_long_while(self):
         # They come near to each other, and stay so for the hold.
@@ -199,6 +202,14 @@ class Nearest(LampCase):
         night = night_of({}, [((0, 1),), ((1, 1),)], [(STILL, STILL), (STILL, STILL)], {})
         run = ({0: ((0, 60), (0, 0)), 1: ((50, 60), (30, 0))},)
         self.tells(((900, 1), (189, 1), 0, 1), nearest_ever, show, night, run)
+
+    def test_a_slow_way_to_each_other(self):
+        # 20 in 1000 ticks, from 50 away on: they come nearer by 1 in each tick, times their distance.
+        show = (BOUNDS, ((0, 0), (50, 0)), (9999, 1, 2), ((1000, 30, PICTURE[1:]),))
+        night = night_of({}, [((0, 1),), ((0, 1),)], [(STILL, STILL), (STILL, STILL)], {})
+        run = ({0: ((0, 0), (0, 0)), 1: ((50, 0), (30, 0))},)
+        self.assertIs(is_run(show, night, run), True)
+        self.tells(((900, 1), (1022, 1), 0, 1), nearest_ever, show, night, run)
 
     def test_winds_that_turn_at_the_leaves(self):
         # Ahead of the leaves both are off by EAST, behind them by WEST: the one's later wind never meets the other's earlier.
@@ -292,6 +303,7 @@ class Nearest(LampCase):
         self.assertEqual(verdict(show), ("always",))
         night = some_night(dice, show)
         run = some_run(dice, show, night)
+        self.assertIs(is_run(show, night, run), True)
         self.tells(nearest_shown(nearest_told_fast(show, night, run)), nearest_ever, show, night, run)
         self.assertIs(are_apart_ever(show, night, run), True)
 
