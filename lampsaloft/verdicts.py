@@ -77,15 +77,11 @@ def _plain_reasons(show):
     return found + _stand_reasons(show) + _hold_reasons(show) + _charge_reasons(show)
 
 
-def _is_bad(show, scene, leg, other):
-    """Whether two LEGS are not APART in the flight to a scene."""
-    return not is_apart(leg, other, rho_of(show[0], show[3][scene][0]), r_of(show[0]))
-
-
 def _first_near(show, scene, ahead):
     """The first one of the "near" REASONS of a scene and one ahead, None if there is none."""
+    rho, r = rho_of(show[0], show[3][scene][0]), r_of(show[0])
     for leg, other in couples_between(show[0], stands(show, ahead), stands(show, scene)):
-        if _is_bad(show, scene, leg, other):
+        if not is_apart(leg, other, rho, r):
             return ("near", scene, ahead, leg, other)
     return None
 
@@ -118,7 +114,8 @@ def _are_near(show, scene, ahead, leg, other):
         return False
     # All couples have to be asked for, as there may be too many.
     couples = couples_between(show[0], stands(show, ahead), stands(show, scene))
-    return (leg, other) in couples and _is_bad(show, scene, leg, other)
+    rho, r = rho_of(show[0], show[3][scene][0]), r_of(show[0])
+    return (leg, other) in couples and not is_apart(leg, other, rho, r)
 
 
 def _is_part(thing):
